@@ -36,12 +36,25 @@ def require_timeline(hall, timeline):
         raise BadTimeline(timeline)
 
 
+def meet(places, one, other):
+    """Tells whether two people meet, by the places of the events."""
+    return places[one, "in"] < places[other, "out"] and places[other, "in"] < places[one, "out"]
+
+
 def met_by(hall, timeline, one, other):
     """Tells whether two people meet in the timeline."""
     require_timeline(hall, timeline)
     require_two(hall, one, other)
+    return meet(places_of(timeline), one, other)
+
+
+def keeps(hall, timeline):
+    """Tells whether the timeline keeps the hall."""
+    require_timeline(hall, timeline)
     places = places_of(timeline)
-    return places[one, "in"] < places[other, "out"] and places[other, "in"] < places[one, "out"]
+    pairs = [(one, other) for one in hall.people for other in hall.people if one != other]
+    known = [(one, other) for one, other in pairs if hall.told(one, other) != "open"]
+    return all([meet(places, one, other) == (hall.told(one, other) == "met") for one, other in known])
 
 
 def there(hall, timeline, event):

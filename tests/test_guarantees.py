@@ -5,10 +5,9 @@ from itertools import permutations
 
 from metonce.halls import Hall
 from metonce.timelines import met_by, order_of, there, turned
-from tests.samples import all_timelines, renamed_line
+from tests.samples import OTHER_WAY, all_timelines, renamed_line
 
 PEOPLE = ("x", "y", "z")
-OTHER_WAY = {"in": "out", "out": "in"}
 TEXT = "people x y z\nmet x y\nopen y z"
 PAIRS = [(one, other) for one in PEOPLE for other in PEOPLE if one != other]
 
@@ -31,7 +30,8 @@ class NamesTest(unittest.TestCase):
         for fresh in (("x", "y", "z"), ("y", "z", "x"), ("zed", "yo", "abcdefgh"), ("met", "open", "people")):
             names = dict(zip(PEOPLE, fresh))
             for row in permutations(fresh):
-                lines = [" ".join(("people", *row)), f"met {names['x']} {names['y']}", f"open {names['y']} {names['z']}"]
+                lines = [" ".join(("people", *row)), f"met {names['x']} {names['y']}",
+                         f"open {names['y']} {names['z']}"]
                 yield Hall("\n".join(lines)), names
 
     def test_halls_tell_the_same(self):

@@ -15,7 +15,12 @@ INTERFACE = {
                  "NothingToRedo NoTrial BadJournal BadLine",
     "halls.py": "Hall",
     "timelines.py": "met_by there order_of turned",
+    "sayings.py": "is_so contrary",
+    "books.py": "Book",
+    "cases.py": "barred shows_barred sure",
+    "possible.py": "possible shows_possible surely suspects",
 }
+METHODS = {("halls.py", "Hall"): "told without", ("books.py", "Book"): "fits broken without"}
 
 WRONG = (
     ("L2", "import math\n"),
@@ -118,6 +123,13 @@ class InterfaceTest(unittest.TestCase):
             tree = ast.parse((FOLDER / at).read_text(encoding="utf-8"))
             defined = [node.name for node in tree.body if isinstance(node, (ast.FunctionDef, ast.ClassDef))]
             self.assertEqual([name for name in names.split() if name not in defined], [], at)
+
+    def test_each_method_is_defined_in_its_class(self):
+        for (at, kind), names in METHODS.items():
+            tree = ast.parse((FOLDER / at).read_text(encoding="utf-8"))
+            defined = [part.name for node in tree.body if isinstance(node, ast.ClassDef) and node.name == kind
+                       for part in node.body if isinstance(part, ast.FunctionDef)]
+            self.assertEqual([name for name in names.split() if name not in defined], [], kind)
 
 
 if __name__ == "__main__":

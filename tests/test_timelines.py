@@ -6,14 +6,9 @@ import unittest
 from metonce.errors import BadEvent, BadTimeline, NoPerson
 from metonce.halls import Hall
 from metonce.timelines import met_by, order_of, there, turned
-from tests.samples import DUO, LINE, all_timelines, any_values, nested, refuses
+from tests.samples import DUO, LINE, all_timelines, any_values, line_of, nested, refuses
 
 TRIO = ("x", "y", "z")
-
-
-def line_of(words):
-    """A timeline told shortly: a name alone comes, one with a sign behind it goes."""
-    return tuple((word[0], "out" if word[1:] else "in") for word in words.split())
 
 
 def nearly_right():
