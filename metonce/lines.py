@@ -16,7 +16,7 @@ def ahead_of(table, pairs):
     return ahead
 
 
-def line_of(ahead):
+def line_made(ahead):
     """Gives a timeline in which all stand ahead that ought to, () if there is none."""
     line = []
     while len(line) < len(ahead):
@@ -34,8 +34,7 @@ def line_by(table, paper):
         for other in table.people:
             # Either one may have left first: what follows goes against nothing, if there is a timeline at all.
             if one != other and not table.met[one, other] and (other, one) not in paper.pairs:
-                paper.put((one, other), ("chosen",))
-                paper.follow()
+                paper.choose((one, other))
     if paper.wrong:
         return ()
-    return line_of(ahead_of(table, paper.pairs))
+    return line_made(ahead_of(table, paper.pairs))

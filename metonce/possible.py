@@ -35,14 +35,29 @@ def is_tree(tables, asked, value):
             and is_tree(agreeing(tables, number, "not"), now_asked, apart))
 
 
-def possible(book):
-    """Gives a timeline that fits, or a tree that shows that there is none."""
-    tables = all_tables(book.hall, book.sayings)
+def told_of(hall, sayings):
+    """Gives what possible gives, of any number of sayings."""
+    tables = all_tables(hall, sayings)
     for table in tables:
         told = outcome(table)
         if told[0] == "timeline":
             return told
     return ("none", tree_of(tables, 0))
+
+
+def is_fitting(book, value):
+    """Tells whether any value is a timeline that fits the book."""
+    return is_timeline(book.hall, value) and book.fits(value)
+
+
+def is_tree_of(hall, sayings, value):
+    """Tells whether any value is a tree all of whose leaves are right, of any number of sayings."""
+    return is_tree(all_tables(hall, sayings), (), value)
+
+
+def possible(book):
+    """Gives a timeline that fits, or a tree that shows that there is none."""
+    return told_of(book.hall, book.sayings)
 
 
 def shows_possible(book, value):
@@ -51,8 +66,8 @@ def shows_possible(book, value):
         return False
     word, shown = value
     if word == "timeline":
-        return is_timeline(book.hall, shown) and book.fits(shown)
-    return word == "none" and is_tree(all_tables(book.hall, book.sayings), (), shown)
+        return is_fitting(book, shown)
+    return word == "none" and is_tree_of(book.hall, book.sayings, shown)
 
 
 def surely(book):

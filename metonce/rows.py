@@ -54,6 +54,11 @@ class Paper:
                 self.put(pair, why)
             self._followed += 1
 
+    def choose(self, pair):
+        """Puts a row that nothing gives, unless its pair is told, and all that follows."""
+        self.put(pair, ("chosen",))
+        self.follow()
+
     def _drawn(self, number):
         """Gives what follows of the row with this number, by who met, or with a row ahead of it."""
         pair = self.rows[number][:2]

@@ -2,6 +2,7 @@
 
 from metonce.books import Book
 from metonce.halls import Hall
+from tests.looks import line_holds
 
 NAMES = ("ann", "b", "cyd", "d", "eve", "f", "gus", "h", "ian")
 
@@ -38,6 +39,41 @@ def draw_book(source, people, opens, sayings):
     hall = draw_hall(source, people, source.randrange(opens + 1))
     many = source.randrange(sayings + 1) if people > 1 else 0
     return Book(hall, tuple(draw_saying(source, hall.people) for _ in range(many)))
+
+
+def draw_claim(source, people):
+    word = source.choice(("saying", "there", "within"))
+    if word == "saying":
+        return draw_saying(source, people)
+    one, other = source.sample(people, 2)
+    return (word, (one, source.choice(("in", "out"))), other) if word == "there" else (word, one, other)
+
+
+def draw_line(source, people):
+    """A timeline of these people."""
+    line = []
+    for name in source.sample([*people, *people], 2 * len(people)):
+        line.append((name, "out" if (name, "in") in line else "in"))
+    return tuple(line)
+
+
+def draw_line_with_book(source, people, opens, sayings):
+    """A timeline of so many people, and a Book that it fits, with so many lines open and sayings."""
+    while True:
+        names = source.sample(NAMES[:people], people)
+        line = draw_line(source, names)
+        pairs = [(one, other) for place, one in enumerate(names) for other in names[:place]]
+        unknown = source.sample(pairs, min(opens, len(pairs)))
+        met = [pair for pair in pairs if pair not in unknown and line_holds(line, ("met", *pair))]
+        if len(met) <= 20:
+            break
+    lines = [" ".join(("people", *source.sample(names, people)))]
+    lines += [" ".join((word, *pair)) for word, told in (("met", met), ("open", unknown)) for pair in told]
+    heard = []
+    while people > 1 and len(heard) < sayings:
+        saying = draw_saying(source, names)
+        heard += [saying] * line_holds(line, saying)
+    return line, Book(Hall("\n".join(lines)), tuple(heard))
 
 
 def places_in(value):

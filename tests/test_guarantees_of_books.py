@@ -9,62 +9,12 @@ from metonce.halls import Hall
 from metonce.possible import possible, shows_possible, surely, suspects
 from metonce.sayings import contrary, is_so
 from metonce.timelines import order_of, turned
+from tests.changes import book_without, renamed, renamed_book, turned_saying, turned_told
 from tests.draws import draw_book, draw_saying
 from tests.looks import all_cases
-from tests.samples import OTHER_WAY, all_sayings, all_timelines, renamed_line
+from tests.samples import all_sayings, all_timelines, renamed_line
 
 TRIO = ("x", "y", "z")
-
-
-def turned_saying(saying):
-    word, *told = saying
-    if word != "before":
-        return saying
-    return (word, *[(name, OTHER_WAY[way]) for name, way in reversed(told)])
-
-
-def turned_why(why):
-    return ("through", why[2], why[1]) if why[0] == "through" else why
-
-
-def turned_told(value):
-    """A result of barred or possible, or a tree, as it is told if time runs backward."""
-    word, *told = value
-    if word == "timeline":
-        return (word, tuple((name, OTHER_WAY[way]) for name, way in reversed(told[0])))
-    if word == "none":
-        return (word, turned_told(told[0]))
-    if word == "ask":
-        return (word, told[0], turned_told(told[1]), turned_told(told[2]))
-    if word == "rows":
-        return (word, tuple((y, x, turned_why(why)) for x, y, why in told[0]))
-    if word == "round":
-        return (word, told[0][::-1])
-    return value
-
-
-def renamed(value, names):
-    """A value in which all strings that are names are other ones."""
-    if isinstance(value, tuple):
-        return tuple(renamed(part, names) for part in value)
-    return names.get(value, value) if isinstance(value, str) else value
-
-
-def renamed_book(book, names, people):
-    """The same book with other names, which stand in the sequence of these people."""
-    lines = [line.split(" ") for line in book.hall.text.split("\n")][1:]
-    told = [" ".join((words[0], *[names[name] for name in words[1:]])) for words in lines]
-    return Book(Hall("\n".join([" ".join(("people", *people)), *told])), renamed(book.sayings, names))
-
-
-def book_without(book, name):
-    """The book without one person, and without all sayings of this person."""
-    told = []
-    for saying in book.sayings:
-        people = [part if isinstance(part, str) else part[0] for part in saying[1:]]
-        if name not in people:
-            told.append(saying)
-    return Book(book.hall.without(name), tuple(told))
 
 
 def drawn_books(seed, many=12, opens=3, sayings=6):

@@ -19,6 +19,10 @@ INTERFACE = {
     "books.py": "Book",
     "cases.py": "barred shows_barred sure",
     "possible.py": "possible shows_possible surely suspects",
+    "judging.py": "judged shows_judged",
+    "orders.py": "many nth number_of line_of shows_line_of",
+    "clashing.py": "needless clash shows_clash",
+    "looking.py": "looks shows_looks",
 }
 METHODS = {("halls.py", "Hall"): "told without", ("books.py", "Book"): "fits broken without"}
 
