@@ -199,3 +199,20 @@ def fewest_looks(room):
 
 def is_line_in(hall, cases, line):
     return line_is_right(Room(hall.text, cases), (), line)
+
+
+def cheapest_of(hall, sayings, offers, wishes, word_told=word_of):
+    """What cheapest ought to tell; word_told gives what judged ought to tell first, None if no timeline fits."""
+    choices = [choice for many in range(len(offers) + 1) for choice in combinations(offers, many)]
+    choices.sort(key=lambda choice: (sum(price for _, price in choice), len(choice), choice))
+    reasons = []
+    for choice in choices:
+        more = (*sayings, *[saying for saying, _ in choice])
+        if len(more) > 30 or word_told(hall, more, wishes[0][0]) is None:
+            continue
+        told = [(number, word_told(hall, more, claim)) for number, (claim, _) in enumerate(wishes)]
+        wrong = [(number, word) for number, word in told if word != wishes[number][1]]
+        if not wrong:
+            return ("choice", sum(price for _, price in choice), choice, tuple(reasons))
+        reasons.append((choice, *wrong[0]))
+    return ("none", tuple(reasons))

@@ -294,6 +294,24 @@ def check_try(package, at, node):
         package.tell(at, node, "L19 what stands in a try (stricter than the rule)")
 
 
+def check_exit(package, at, node):
+    """What may stand in an `__exit__` is kept to attributes assigned, and to tests for None."""
+    if not isinstance(node, ast.FunctionDef) or node.name != "__exit__":
+        return
+    unread = {arg.arg for arg in node.args.args[2:]}
+    for part in [inner for row in node.body for inner in ast.walk(row)]:
+        if isinstance(part, ast.stmt) and not isinstance(part, (ast.If, ast.Assign)):
+            package.tell(at, part, "L6 what stands in an __exit__ (stricter than the rule)")
+        elif isinstance(part, ast.Assign) and not all(isinstance(to, ast.Attribute) for to in part.targets):
+            package.tell(at, part, "L6 what an __exit__ assigns")
+        elif isinstance(part, (ast.Call, ast.BinOp, ast.Subscript)):
+            package.tell(at, part, "L6 what an __exit__ does")
+        elif isinstance(part, ast.Compare) and not all(isinstance(sign, (ast.Is, ast.IsNot)) for sign in part.ops):
+            package.tell(at, part, "L6 what an __exit__ compares")
+        elif isinstance(part, ast.Name) and part.id in unread:
+            package.tell(at, part, "L6 what an __exit__ reads")
+
+
 def check_expression(package, at, node):
     if isinstance(node, (ast.Set, ast.SetComp)) or isinstance(node, ast.Call) and called(node) == "set":
         check_set(package, at, node)
@@ -365,4 +383,4 @@ def check_call(package, at, node):
             package.tell(at, node, "L23 what is iterated at once")
 
 
-CHECKS = (check_name, check_function, check_class, check_statement, check_try, check_expression, check_call)
+CHECKS = (check_name, check_function, check_class, check_statement, check_try, check_exit, check_expression, check_call)

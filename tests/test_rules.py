@@ -23,8 +23,13 @@ INTERFACE = {
     "orders.py": "many nth number_of line_of shows_line_of",
     "clashing.py": "needless clash shows_clash",
     "looking.py": "looks shows_looks",
+    "choosing.py": "cheapest",
+    "diaries.py": "Diary",
+    "journals.py": "journal read_journal",
+    "desk.py": "Desk",
 }
-METHODS = {("halls.py", "Hall"): "told without", ("books.py", "Book"): "fits broken without"}
+METHODS = {("halls.py", "Hall"): "told without", ("books.py", "Book"): "fits broken without", ("desk.py", "Desk"): "say",
+           ("diaries.py", "Diary"): "hear forget judged surely undo redo trial keep tried copy"}
 
 WRONG = (
     ("L2", "import math\n"),
@@ -42,6 +47,12 @@ WRONG = (
     ("L5", "class A:\n    for i in (1, 2):\n        pass\n"),
     ("L6", "def f():\n    global x\n    x = 1\n"),
     ("L6", "def f():\n    try:\n        x = 1\n    finally:\n        x = 2\n"),
+    ("L6", "class A:\n    def __exit__(self, kind, value, trace):\n        self.f()\n"),
+    ("L6", "class A:\n    def __exit__(self, kind, value, trace):\n        self.x = self.y()\n"),
+    ("L6", "class A:\n    def __exit__(self, kind, value, trace):\n        x = self.y\n"),
+    ("L6", "class A:\n    def __exit__(self, kind, value, trace):\n        if self.x == 1:\n            self.x = 2\n"),
+    ("L6", "class A:\n    def __exit__(self, kind, value, trace):\n        self.x = value\n"),
+    ("L6", "class A:\n    def __exit__(self, kind, value, trace):\n        return True\n"),
     ("L7", "def f(x):\n    return x / 2\n"),
     ("L7", "X = 1.5\n"),
     ("L7", "def f(xs):\n    return (x for x in xs)\n"),
@@ -93,6 +104,8 @@ RIGHT = (
     "class A(ValueError):\n    \"\"\"Wrong.\"\"\"\n\n    def __init__(self, value):\n        self.value = value\n",
     "class B(ValueError):\n    \"\"\"Wrong.\"\"\"\n\n\ndef f(x):\n    raise B(x)\n",
     "def f(d):\n    try:\n        return d[1]\n    except KeyError:\n        return None\n",
+    "class A:\n    def __exit__(self, kind, value, trace):\n        self.x = self.y\n"
+    "        if kind is not None or self.z is None:\n            self.a.x = ()\n",
 )
 
 
